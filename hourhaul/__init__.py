@@ -1,0 +1,1 @@
+"""Hourhaul: loads over ways that take hours."""

@@ -1,0 +1,14 @@
+"""What kind of thing was handed in, asked of anything [0.3]."""
+
+
+# True and False are ints to Python, but no whole numbers here [0.2].
+def is_whole(thing):
+    return isinstance(thing, int) and not isinstance(thing, bool)
+
+
+def whole_within(thing, least, most):
+    return is_whole(thing) and least <= thing <= most
+
+
+def is_row(thing):
+    return isinstance(thing, (list, tuple))

@@ -1,0 +1,143 @@
+"""The package's own files keep to the small part of Python that the program is written in."""
+
+import ast
+import builtins
+import re
+import unittest
+from pathlib import Path
+
+PACKAGE = Path(__file__).resolve().parent.parent / "hourhaul"
+FILES = sorted(PACKAGE.glob("*.py"))
+
+STATEMENTS = (
+    ast.FunctionDef, ast.ClassDef, ast.ImportFrom, ast.Assign, ast.AugAssign, ast.If, ast.While, ast.For,
+    ast.Return, ast.Break, ast.Continue, ast.Pass, ast.Raise, ast.Try, ast.Expr,
+)
+EXPRESSIONS = (
+    ast.Constant, ast.List, ast.Tuple, ast.Dict, ast.Set, ast.BinOp, ast.UnaryOp, ast.BoolOp, ast.Compare,
+    ast.IfExp, ast.Call, ast.Attribute, ast.Subscript, ast.Slice, ast.ListComp, ast.JoinedStr, ast.FormattedValue,
+    ast.Lambda, ast.Name,
+)
+BUILT_IN = set(
+    "len range enumerate zip min max sum abs sorted reversed int str bool list tuple dict set frozenset isinstance "
+    "ord repr any all divmod Exception ValueError TypeError KeyError IndexError LookupError ZeroDivisionError "
+    "ArithmeticError OverflowError RuntimeError NotImplementedError AttributeError StopIteration".split()
+)
+METHODS = set(
+    "append clear copy count endswith extend find get index insert isalnum isalpha isdigit islower isspace isupper "
+    "items join keys ljust lower lstrip partition pop remove replace reverse rfind rjust rpartition rsplit rstrip "
+    "setdefault split splitlines startswith strip update upper values zfill bit_length".split()
+)
+NO_WORDS = (
+    r"\b(type|typing|typing_extensions|enum|Enum|IntEnum|StrEnum|Flag|IntFlag|Generic|Protocol|ABC|ABCMeta|namedtuple"
+    r"|NamedTuple|TypedDict|TYPE_CHECKING|abstractmethod)\b|dataclass|overload|contextmanager"
+)
+DUNDERS = ("__init__", "__eq__", "__repr__", "__str__", "__len__")
+
+
+def bound_names(tree):
+    """Every name that a file gives a meaning to: defs, classes, imports, parameters, locals."""
+    names = set()
+    for node in ast.walk(tree):
+        if isinstance(node, (ast.FunctionDef, ast.ClassDef)):
+            names.add(node.name)
+        elif isinstance(node, ast.arg):
+            names.add(node.arg)
+        elif isinstance(node, ast.alias):
+            names.add(node.asname or node.name)
+        elif isinstance(node, ast.Name) and isinstance(node.ctx, ast.Store):
+            names.add(node.id)
+        elif isinstance(node, ast.ExceptHandler) and node.name:
+            names.add(node.name)
+    return names
+
+
+class Language(unittest.TestCase):
+    def each(self, *kinds):
+        for path in FILES:
+            for node in ast.walk(ast.parse(path.read_text())):
+                if isinstance(node, kinds):
+                    yield f"{path.name}:{getattr(node, 'lineno', '')}", node
+
+    def test_there_are_files(self):
+        names = {path.stem for path in FILES}
+        self.assertLessEqual({"__init__", "errors", "nets", "walks", "plans"}, names)
+
+    def test_signs_sizes_and_words(self):
+        for path in FILES:
+            text = path.read_text(encoding="utf-8")
+            lines = text.split("\n")
+            self.assertRegex(text, r"\A[ -~\n]*\n\Z", path.name)
+            self.assertLessEqual(len(lines) - 1, 400, path.name)
+            self.assertLessEqual(max(map(len, lines)), 120, path.name)
+            self.assertIsNone(re.search(NO_WORDS, text), path.name)
+
+    def test_statements_and_expressions(self):
+        for where, node in self.each(ast.stmt):
+            self.assertIsInstance(node, STATEMENTS, where)
+        for where, node in self.each(ast.expr):
+            self.assertIsInstance(node, EXPRESSIONS, where)
+
+    def test_functions(self):
+        for where, node in self.each(ast.FunctionDef):
+            self.assertLessEqual(node.end_lineno - node.lineno + 1, 40, where)
+            self.assertEqual(node.decorator_list, [], where)
+            plain = node.args
+            self.assertIsNone(plain.vararg or plain.kwarg or node.returns, where)
+            self.assertEqual(plain.kwonlyargs + plain.posonlyargs, [], where)
+            self.assertEqual([arg for arg in plain.args if arg.annotation], [], where)
+
+    def test_single_statements(self):
+        for where, node in self.each(ast.Assign):
+            self.assertEqual(len(node.targets), 1, where)
+        for where, node in self.each(ast.For, ast.While):
+            self.assertEqual(node.orelse, [], where)
+        for where, node in self.each(ast.ListComp):
+            self.assertEqual(len(node.generators), 1, where)
+            self.assertLessEqual(len(node.generators[0].ifs), 1, where)
+        for where, node in self.each(ast.Try):
+            self.assertEqual(node.finalbody, [], where)
+        for where, node in self.each(ast.ImportFrom):
+            self.assertEqual(node.level, 0, where)
+            self.assertRegex(node.module, r"^hourhaul\.", where)
+        for where, node in self.each(ast.Constant):
+            self.assertNotIsInstance(node.value, (float, bytes, complex), where)
+
+    def test_expressions_by_themselves_are_calls_or_the_files_docstring(self):
+        for path in FILES:
+            tree = ast.parse(path.read_text())
+            self.assertIsNotNone(ast.get_docstring(tree), path.name)
+            for node in ast.walk(tree):
+                if isinstance(node, ast.Expr) and node is not tree.body[0]:
+                    self.assertIsInstance(node.value, ast.Call, f"{path.name}:{node.lineno}")
+
+    def test_signs_between_values(self):
+        for where, node in self.each(ast.Compare):
+            for sign, right in zip(node.ops, node.comparators):
+                if isinstance(sign, (ast.Is, ast.IsNot)):
+                    self.assertIsInstance(right, ast.Constant, where)
+        for where, node in self.each(ast.BinOp):
+            self.assertNotIsInstance(node.op, (ast.Div, ast.MatMult), where)
+
+    def test_names(self):
+        for path in FILES:
+            tree = ast.parse(path.read_text())
+            bound = bound_names(tree)
+            self.assertEqual(bound & (BUILT_IN | set(dir(builtins))), set(), path.name)
+            for name in bound - set(DUNDERS):
+                self.assertRegex(name, r"\A[A-Za-z][A-Za-z0-9_]*\Z", path.name)
+            for node in ast.walk(tree):
+                if isinstance(node, ast.Name):
+                    self.assertIn(node.id, bound | BUILT_IN, f"{path.name}:{node.lineno}")
+
+    def test_methods_of_pythons_own_values(self):
+        own = set(DUNDERS)
+        for where, node in self.each(ast.ClassDef):
+            own.update(part.name for part in node.body if isinstance(part, ast.FunctionDef))
+        for where, node in self.each(ast.Call):
+            if isinstance(node.func, ast.Attribute):
+                self.assertIn(node.func.attr, METHODS | own, where)
+
+
+if __name__ == "__main__":
+    unittest.main()
