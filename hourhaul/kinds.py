@@ -12,3 +12,8 @@ def whole_within(thing, least, most):
 
 def is_row(thing):
     return isinstance(thing, (list, tuple))
+
+
+# Each is above the one ahead of it, so no two are alike.
+def is_rising(things):
+    return all([one < other for one, other in zip(things, things[1:])])

@@ -32,6 +32,8 @@ NO_WORDS = (
     r"\b(type|typing|typing_extensions|enum|Enum|IntEnum|StrEnum|Flag|IntFlag|Generic|Protocol|ABC|ABCMeta|namedtuple"
     r"|NamedTuple|TypedDict|TYPE_CHECKING|abstractmethod)\b|dataclass|overload|contextmanager"
 )
+WALKED = ("zip", "enumerate", "reversed", "range", "items", "keys", "values")
+WALKERS = ("list", "tuple", "dict", "sorted", "sum", "any", "all", "enumerate", "zip", "min", "max", "join")
 DUNDERS = ("__init__", "__eq__", "__repr__", "__str__", "__len__")
 
 
@@ -52,6 +54,19 @@ def bound_names(tree):
     return names
 
 
+def called(node):
+    """The name of the function or method that a call calls, None of what is no call."""
+    if not isinstance(node, ast.Call):
+        return None
+    return node.func.attr if isinstance(node.func, ast.Attribute) else node.func.id
+
+
+def top_names(tree):
+    """What a file defines itself, at its top."""
+    names = [node.name for node in tree.body if isinstance(node, (ast.FunctionDef, ast.ClassDef))]
+    return names + [node.targets[0].id for node in tree.body if isinstance(node, ast.Assign)]
+
+
 class Language(unittest.TestCase):
     def each(self, *kinds):
         for path in FILES:
@@ -61,7 +76,8 @@ class Language(unittest.TestCase):
 
     def test_there_are_files(self):
         names = {path.stem for path in FILES}
-        self.assertLessEqual({"__init__", "errors", "nets", "walks", "plans"}, names)
+        asked = "__init__ errors nets walks plans carried streams fullest bends light"
+        self.assertLessEqual(set(asked.split()), names)
 
     def test_signs_sizes_and_words(self):
         for path in FILES:
@@ -129,6 +145,64 @@ class Language(unittest.TestCase):
             for node in ast.walk(tree):
                 if isinstance(node, ast.Name):
                     self.assertIn(node.id, bound | BUILT_IN, f"{path.name}:{node.lineno}")
+
+    def test_names_of_classes_and_imports_have_no_other_meaning(self):
+        for path in FILES:
+            tree = ast.parse(path.read_text())
+            taken = [alias.name for node in tree.body if isinstance(node, ast.ImportFrom) for alias in node.names]
+            names = taken + top_names(tree)
+            self.assertEqual(len(names), len(set(names)), path.name)
+            for node in ast.walk(tree):
+                if isinstance(node, ast.arg):
+                    self.assertNotIn(node.arg, names, path.name)
+                elif isinstance(node, ast.Name) and isinstance(node.ctx, ast.Store) and node.col_offset > 0:
+                    self.assertNotIn(node.id, names, path.name)
+
+    def test_what_is_drawn_from_another_file_is_defined_there_and_used(self):
+        trees = {path.stem: ast.parse(path.read_text()) for path in FILES}
+        for stem, tree in trees.items():
+            used = {node.id for node in ast.walk(tree) if isinstance(node, ast.Name)}
+            for node in tree.body:
+                if isinstance(node, ast.ImportFrom):
+                    own = top_names(trees[node.module.partition(".")[2]])
+                    for alias in node.names:
+                        self.assertIsNone(alias.asname, stem)
+                        self.assertIn(alias.name, own, stem)
+                        self.assertIn(alias.name, used, stem)
+
+    def test_no_files_draw_from_one_another(self):
+        drawn = {}
+        for path in FILES:
+            froms = [node for node in ast.parse(path.read_text()).body if isinstance(node, ast.ImportFrom)]
+            drawn[path.stem] = {node.module.partition(".")[2] for node in froms}
+        while drawn:
+            free = [stem for stem, others in drawn.items() if not others & set(drawn)]
+            self.assertNotEqual(free, [], drawn)
+            for stem in free:
+                del drawn[stem]
+
+    def test_each_name_is_defined_in_one_file(self):
+        names = [name for path in FILES for name in top_names(ast.parse(path.read_text()))]
+        self.assertEqual(sorted(names), sorted(set(names)))
+
+    def test_walked_at_once(self):
+        for path in FILES:
+            tree = ast.parse(path.read_text())
+            walked = []
+            for node in ast.walk(tree):
+                if isinstance(node, (ast.For, ast.comprehension)):
+                    walked.append(node.iter)
+                elif called(node) in WALKERS:
+                    walked.extend(node.args[:1])
+            for node in ast.walk(tree):
+                if called(node) in WALKED:
+                    self.assertTrue(any(node is other for other in walked), f"{path.name}:{node.lineno}")
+
+    def test_powers_are_written_out(self):
+        for where, node in self.each(ast.BinOp):
+            if isinstance(node.op, ast.Pow):
+                self.assertIsInstance(node.right, ast.Constant, where)
+                self.assertLessEqual(node.right.value, 64, where)
 
     def test_methods_of_pythons_own_values(self):
         own = set(DUNDERS)

@@ -2,22 +2,10 @@ import unittest
 
 from hourhaul.nets import turned_net
 from hourhaul.plans import laid_plans, later_plan, plan_till, turned_plan
-from samples import PLAIN
+from samples import PLAIN, sent, stood
 
 # Clean by 9 in PLAIN: nothing stands at place 1 then.
 CLEAN = [(0, 0, 4), (1, 0, 2), (1, 2, 3), (2, 1, 4), (5, 1, 2)]
-
-
-def brought(net, plan, place, hour):
-    come = sum(loads for at, way, loads in plan if net[1][way][1] == place and at + net[1][way][3] <= hour)
-    left = sum(loads for at, way, loads in plan if net[1][way][0] == place and at <= hour)
-    return come - left
-
-
-def sent(net, plan, hour):
-    left = sum(loads for at, way, loads in plan if net[1][way][0] == 0 and at >= hour)
-    back = sum(loads for at, way, loads in plan if net[1][way][1] == 0 and at + net[1][way][3] >= hour)
-    return left - back
 
 
 class Laid(unittest.TestCase):
@@ -69,8 +57,8 @@ class Till(unittest.TestCase):
     def test_what_is_brought_by_then_stays(self):
         for hour in range(-1, 10):
             cut = plan_till(PLAIN, CLEAN, hour)
-            self.assertEqual(brought(PLAIN, cut, 2, hour), brought(PLAIN, CLEAN, 2, hour))
-            self.assertTrue(all(brought(PLAIN, cut, 1, at) >= 0 for at in range(10)))
+            self.assertEqual(stood(PLAIN, cut, 2, hour), stood(PLAIN, CLEAN, 2, hour))
+            self.assertTrue(all(stood(PLAIN, cut, 1, at) >= 0 for at in range(10)))
 
 
 class Turned(unittest.TestCase):
@@ -89,10 +77,10 @@ class Turned(unittest.TestCase):
         for last in (8, 9, 11):
             net, plan = turned_net(PLAIN), turned_plan(PLAIN, last, CLEAN)
             for hour in range(last + 1):
-                self.assertEqual(brought(net, plan, 2, hour), sent(PLAIN, CLEAN, last - hour))
-                self.assertEqual(sent(net, plan, hour), brought(PLAIN, CLEAN, 2, last - hour))
-                self.assertGreaterEqual(brought(net, plan, 1, hour), 0)
-            self.assertEqual(brought(net, plan, 1, last), 0)
+                self.assertEqual(stood(net, plan, 2, hour), sent(PLAIN, CLEAN, last - hour))
+                self.assertEqual(sent(net, plan, hour), stood(PLAIN, CLEAN, 2, last - hour))
+                self.assertGreaterEqual(stood(net, plan, 1, hour), 0)
+            self.assertEqual(stood(net, plan, 1, last), 0)
 
 
 class Rising(unittest.TestCase):
