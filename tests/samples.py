@@ -2,9 +2,27 @@
 
 import math
 import random
+from collections import deque
+from functools import lru_cache
 from itertools import permutations, product
 
+G = 10 ** 9
+FAR = 2 * 10 ** 18
+HUGE = 10 ** 29
 PLAIN = (3, ((0, 1, 5, 2), (1, 2, 4, 1), (0, 2, 3, 7)))
+# Bends (3, 2), (8, 2): the walk across is 3 long; all that comes beyond it goes back over way 1.
+BACK = (4, ((0, 1, 2, 1), (1, 2, 2, 1), (2, 3, 2, 1), (0, 2, 2, 4), (1, 3, 2, 5)))
+# Bends (3, 1), (5, G - 1), (6, G - 1), (8, 1).
+GREAT = (4, ((0, 1, G, 1), (1, 2, 1, 1), (2, 3, G, 1), (0, 2, G, 4), (1, 3, G, 5)))
+# A way into the begin, one out of the end, one without room; place 3 is come to by none that has room.
+ODD = (5, (
+    (0, 1, 3, 1), (1, 4, 2, 2), (1, 0, 9, 1), (4, 2, 9, 1), (0, 4, 0, 1), (0, 3, 0, 1), (3, 4, 7, 1), (2, 1, 5, 1),
+))
+# The end is never come to: no ways, none with room, none that joins.
+NEVER = (
+    (2, ()), (6, ()), (2, ((0, 1, 0, 1),)), (2, ((1, 0, 5, 1),)), (3, ((0, 1, 5, 2), (1, 2, 0, 1))),
+    (3, ((0, 1, 5, 2), (2, 1, 5, 1), (1, 0, 5, 1))), (4, ((0, 1, 5, 1), (2, 3, 5, 1), (0, 2, 0, 1))),
+)
 
 
 def some_nets(count):
@@ -114,3 +132,81 @@ def only_whole(thing):
     if isinstance(thing, (list, tuple)):
         return all(only_whole(part) for part in thing)
     return type(thing) is int
+
+
+def tiny_nets(count):
+    """Nets so small that all plans of a few hours can be tried."""
+    chance = random.Random(62)
+    for _ in range(count):
+        many = chance.randint(2, 4)
+        ways = []
+        for _ in range(chance.randint(1, 5)):
+            ways.append((*chance.sample(range(many), 2), chance.choice((0, 1, 1, 2)), chance.choice((1, 1, 2, 3))))
+        yield (many, tuple(ways))
+
+
+def most_by_trying(net, last):
+    """The most that any right plan has brought by an hour, by trying all that may go in, hour by hour."""
+    many, ways = net
+
+    @lru_cache(maxsize=None)
+    def best(hour, stands, under):
+        stands = list(stands)
+        for out, place, loads in under:
+            stands[place] += loads if out == hour else 0
+        if hour == last:
+            return stands[-1]
+        tops = [0 if hour + long > last else min(room, stands[start]) if start else room
+                for start, to, room, long in ways]
+        found = 0
+        for loads in product(*(range(top + 1) for top in tops)):
+            left = list(stands)
+            for (start, to, room, long), taken in zip(ways, loads):
+                left[start] -= taken if start else 0
+            if min(left) >= 0:
+                gone = [(hour + way[3], way[1], taken) for way, taken in zip(ways, loads) if taken and way[1]]
+                rest = [triple for triple in under if triple[0] > hour]
+                found = max(found, best(hour + 1, tuple(left), tuple(sorted(rest + gone))))
+        return found
+
+    return best(0, (0,) * many, ())
+
+
+def most_by_hours(net, last):
+    """The most by an hour: place by place and hour by hour, as much as ever fits from the begin to the end."""
+    many, ways = net
+    room = {}
+    for start, to, loads, long in ways:
+        for hour in range(last - long + 1):
+            step = ((start, hour), (to, hour + long))
+            room[step] = room.get(step, 0) + loads
+    for place in range(many):
+        for hour in range(last):
+            room[((place, hour), (place, hour + 1))] = math.inf
+    joined = {}
+    for one, other in list(room):
+        joined.setdefault(one, set()).add(other)
+        joined.setdefault(other, set()).add(one)
+        room.setdefault((other, one), 0)
+    most = 0
+    while True:
+        come = {(0, 0): None}
+        row = deque(come)
+        while row and (many - 1, last) not in come:
+            here = row.popleft()
+            for there in sorted(joined.get(here, ())):
+                if there not in come and room[(here, there)] > 0:
+                    come[there] = here
+                    row.append(there)
+        if (many - 1, last) not in come:
+            return most
+        steps = []
+        there = (many - 1, last)
+        while come[there] is not None:
+            steps.append((come[there], there))
+            there = come[there]
+        loads = min(room[step] for step in steps)
+        for one, other in steps:
+            room[(one, other)] -= loads
+            room[(other, one)] += loads
+        most += loads
