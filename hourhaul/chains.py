@@ -20,10 +20,10 @@ def is_chain(net, steps, loads):
         return False
     places = [0]
     for step in steps:
-        start, to = step_places(net, step)
-        if start != places[-1] or to in places:
+        ends = step_places(net, step)
+        if ends[0] != places[-1] or ends[1] in places:
             return False
-        places.append(to)
+        places.append(ends[1])
     return places[-1] == net[0] - 1
 
 

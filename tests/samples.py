@@ -36,6 +36,19 @@ def some_nets(count):
         yield (many, tuple(ways))
 
 
+def grown_net(net, times):
+    """One of some_nets with rooms up to the bound, and so many times as long ways."""
+    return (net[0], tuple((start, to, room * G // 5, hours * times) for start, to, room, hours in net[1]))
+
+
+def hours_about(lengths):
+    """Hours 0 and 1, those about some lengths, and far ones."""
+    hours = {0, 1, 12, 10 ** 6, FAR - 1, FAR}
+    for length in lengths:
+        hours.update((length - 1, length, length + 1))
+    return sorted(hours)
+
+
 def walks_between(net, start, goal):
     """All walks, by trying every row of unlike places and every way between neighbours."""
     many, ways = net
@@ -210,3 +223,44 @@ def most_by_hours(net, last):
             room[(one, other)] -= loads
             room[(other, one)] += loads
         most += loads
+
+
+def some_calendars(count):
+    """Calendars whose rooms and waiting rooms are often just too small."""
+    chance = random.Random(91)
+    for number in range(count):
+        many = chance.randint(2, 5)
+        last = chance.choice((0, 1, 3, 5, 6)) if number % 4 else 6
+        ways = [(*chance.sample(range(many), 2), chance.choice((1, 1, 2, 3, 7))) for _ in range(chance.randint(0, 8))]
+        rooms = [tuple(chance.choice((0, 1, 2, 3)) for _ in range(last + 1)) for _ in ways]
+        waits = [None] * many
+        for place in range(1, many - 1):
+            if chance.random() < 0.7:
+                waits[place] = tuple(chance.choice((0, 0, 1, 2)) for _ in range(last))
+        yield (many, last, tuple(ways), tuple(rooms), tuple(waits))
+
+
+def some_cal_plan(chance, calendar):
+    """Triples, made hour by hour of what stands; more than may may be left waiting."""
+    many, last, ways, rooms, waits = calendar
+    net = (many, tuple((start, to, 0, hours) for start, to, hours in ways))
+    plan = []
+    for hour in range(last):
+        for number, (start, to, hours) in chance.sample(list(enumerate(ways)), len(ways)):
+            room = rooms[number][hour]
+            there = room if start == 0 else min(room, stood(net, plan, start, hour))
+            if there > 0 and hour + hours <= last and chance.random() < (0.4 if start == 0 else 0.9):
+                plan.append((hour, number, chance.choice((1, there, there))))
+    return sorted(plan)
+
+
+def spoilt_plan(chance, plan):
+    """A list of triples with one thing otherwise than in a plan."""
+    number = chance.randrange(len(plan))
+    hour, way, loads = plan[number]
+    other = list(plan)
+    other[number] = chance.choice((
+        (hour, way, loads + 1), (hour, way, 0), (hour - 1, way, loads), (hour + 1, way, loads), (hour, way + 1, loads),
+        (hour, -1, loads), (hour, way, -loads), (-1, way, loads), (hour, HUGE, loads), (HUGE, way, loads),
+    ))
+    return chance.choice((other, sorted(other), plan + [plan[number]], sorted(plan + [plan[number]]), plan[1:]))

@@ -4,7 +4,7 @@ import unittest
 from hourhaul.carried import brought_by, plan_clean, plan_right, sent_from, stands_at
 from hourhaul.nets import turned_net
 from hourhaul.plans import plan_till, turned_plan
-from samples import PLAIN, only_whole, sent, some_nets, stood
+from samples import PLAIN, only_whole, sent, some_nets, spoilt_plan, stood
 
 # 0 -> 1 -> 2, beside it 0 -> 2; way 3 leads back to the begin, way 4 away from the end; way 5 has no room.
 NET = (3, ((0, 1, 5, 2), (1, 2, 4, 1), (0, 2, 3, 7), (1, 0, 9, 1), (2, 1, 6, 3), (0, 1, 0, 1)))
@@ -36,7 +36,7 @@ def clean_by_words(net, last, plan):
 
 
 def some_plan(chance, net, last):
-    """A right plan, made hour by hour of what stands; now and then spoilt by one change."""
+    """A right plan, made hour by hour of what stands."""
     plan = []
     for hour in range(last):
         for number, (start, to, room, hours) in enumerate(net[1]):
@@ -44,17 +44,6 @@ def some_plan(chance, net, last):
             if there > 0 and hour + hours <= last and chance.random() < 0.6:
                 plan.append((hour, number, chance.choice((1, there, there))))
     return plan
-
-
-def spoilt(chance, plan):
-    number = chance.randrange(len(plan))
-    hour, way, loads = plan[number]
-    other = list(plan)
-    other[number] = chance.choice((
-        (hour, way, loads + 1), (hour, way, 0), (hour - 1, way, loads), (hour + 1, way, loads), (hour, way + 1, loads),
-        (hour, -1, loads), (hour, way, -loads), (-1, way, loads), (hour, HUGE, loads), (HUGE, way, loads),
-    ))
-    return chance.choice((other, sorted(other), plan + [plan[number]], sorted(plan + [plan[number]])))
 
 
 class Right(unittest.TestCase):
@@ -139,7 +128,7 @@ class Right(unittest.TestCase):
         right = wrong = clean = 0
         for net in some_nets(250):
             plan = some_plan(chance, net, 7)
-            for tried in [plan] + [spoilt(chance, plan) for _ in range(6) if plan]:
+            for tried in [plan] + [spoilt_plan(chance, plan) for _ in range(6) if plan]:
                 for last in (6, 7):
                     told = right_by_words(net, last, tried)
                     self.check(told, net, last, tried)

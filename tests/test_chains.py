@@ -5,7 +5,9 @@ from hourhaul.bends import bends_of
 from hourhaul.carried import plan_clean
 from hourhaul.chains import chain_length, chains_plan, chains_right, shortest_chains
 from hourhaul.closed import most_by
-from samples import BACK, FAR, G, GREAT, HUGE, NEVER, ODD, PLAIN, only_whole, small_nets, some_nets, stood
+from samples import (
+    BACK, FAR, GREAT, HUGE, NEVER, ODD, PLAIN, grown_net, hours_about, only_whole, small_nets, some_nets, stood,
+)
 
 ALL = (PLAIN, BACK, GREAT, ODD) + NEVER
 ACROSS_STEPS = ((0, True), (1, True), (2, True))
@@ -49,11 +51,8 @@ def right_by_words(net, last, chains):
     return sorted(together.items()) == [bend for bend in bends_of(net) if bend[0] <= last]
 
 
-def hours_about(net):
-    hours = {0, 1, 12, FAR}
-    for length, _ in bends_of(net):
-        hours.update((length - 1, length, length + 1))
-    return sorted(hours)
+def hours_about_bends(net):
+    return hours_about([length for length, loads in bends_of(net)])
 
 
 def parted(chance, chains):
@@ -101,14 +100,14 @@ class Told(unittest.TestCase):
     def test_about_each_bend(self):
         back = 0
         for net in list(small_nets(300)) + list(some_nets(300)) + list(ALL):
-            for last in hours_about(net):
+            for last in hours_about_bends(net):
                 back += any(not forth for steps, loads in self.check(net, last) for way, forth in steps)
         self.assertGreater(back, 100)
 
     def test_great_rooms_and_hours(self):
         for net in some_nets(60):
-            grown = (net[0], tuple((start, to, room * G // 5, hours * 250_000) for start, to, room, hours in net[1]))
-            for last in hours_about(grown):
+            grown = grown_net(net, 250_000)
+            for last in hours_about_bends(grown):
                 self.check(grown, last)
 
     def test_the_told_list_is_the_askers_own(self):

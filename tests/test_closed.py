@@ -4,8 +4,8 @@ import unittest
 from hourhaul.bends import bends_of
 from hourhaul.closed import closed_hours, closed_sum, most_by
 from samples import (
-    BACK, FAR, G, GREAT, HUGE, NEVER, ODD, PLAIN, most_by_hours, most_by_trying, only_whole, small_nets, some_nets,
-    tiny_nets,
+    BACK, FAR, G, GREAT, HUGE, NEVER, ODD, PLAIN, grown_net, hours_about, most_by_hours, most_by_trying, only_whole,
+    small_nets, some_nets, tiny_nets,
 )
 
 ALL = (PLAIN, BACK, GREAT, ODD) + NEVER
@@ -20,12 +20,8 @@ def sum_by_words(net, closed):
     return total
 
 
-def hours_about(net):
-    """Hours 0, about each bend's length, and far ones."""
-    hours = {0, 1, 10 ** 6, FAR - 1, FAR}
-    for length, _ in bends_of(net):
-        hours.update((length - 1, length, length + 1))
-    return sorted(hours)
+def hours_about_bends(net):
+    return hours_about([length for length, loads in bends_of(net)])
 
 
 class Most(unittest.TestCase):
@@ -59,7 +55,7 @@ class Most(unittest.TestCase):
 
     def test_the_sum_over_bends(self):
         for net in small_nets(120):
-            for last in hours_about(net):
+            for last in hours_about_bends(net):
                 most = sum(loads * (last - length + 1) for length, loads in bends_of(net) if length <= last)
                 self.check(net, last, most)
 
@@ -93,12 +89,12 @@ class Told(unittest.TestCase):
 
     def test_their_sum_is_just_the_most(self):
         for net in ALL:
-            for last in hours_about(net):
+            for last in hours_about_bends(net):
                 self.check(net, last)
 
     def test_nets_at_each_hour(self):
         for net in list(small_nets(300)) + list(some_nets(300)):
-            for last in hours_about(net):
+            for last in hours_about_bends(net):
                 self.check(net, last)
 
     def test_full_ways_hide_places_from_the_begin(self):
@@ -108,8 +104,8 @@ class Told(unittest.TestCase):
 
     def test_great_rooms_and_hours(self):
         for net in some_nets(80):
-            grown = (net[0], tuple((start, to, room * G // 5, hours * 250_000) for start, to, room, hours in net[1]))
-            for last in hours_about(grown):
+            grown = grown_net(net, 250_000)
+            for last in hours_about_bends(grown):
                 self.check(grown, last)
 
     def test_the_told_list_is_the_askers_own(self):

@@ -6,7 +6,8 @@ from hourhaul.carried import brought_by, plan_clean
 from hourhaul.closed import most_by
 from hourhaul.hauls import best_rounds, rounds_bring, rounds_plan
 from samples import (
-    BACK, FAR, G, GREAT, HUGE, NEVER, ODD, PLAIN, hours_of, only_whole, small_nets, some_nets, stood, walks_between,
+    BACK, FAR, GREAT, HUGE, NEVER, ODD, PLAIN, grown_net, hours_about, hours_of, only_whole, small_nets, some_nets,
+    stood, walks_between,
 )
 
 ALL = (PLAIN, BACK, GREAT, ODD) + NEVER
@@ -81,15 +82,12 @@ class Best(unittest.TestCase):
 
     def test_about_each_bend(self):
         for net in list(small_nets(300)) + list(some_nets(200)) + list(ALL):
-            hours = {0, 1, 12, FAR}
-            for length, _ in bends_of(net):
-                hours.update((length - 1, length, length + 1))
-            for last in sorted(hours):
+            for last in hours_about([length for length, loads in bends_of(net)]):
                 self.check(net, last)
 
     def test_great_rooms_and_hours(self):
         for net in some_nets(60):
-            grown = (net[0], tuple((start, to, room * G // 5, hours * 250_000) for start, to, room, hours in net[1]))
+            grown = grown_net(net, 250_000)
             for last in (249_999, 250_000, 10 ** 6, 2 * 10 ** 6 - 1, 5 * 10 ** 6, FAR):
                 self.check(grown, last)
 

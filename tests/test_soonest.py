@@ -5,7 +5,9 @@ from hourhaul.closed import closed_hours, closed_sum, most_by
 from hourhaul.fullest import fullest_stream
 from hourhaul.hauls import best_rounds, rounds_bring
 from hourhaul.soonest import gain_at, soonest_hour, soonest_right, steady_hour
-from samples import BACK, FAR, G, GREAT, HUGE, NEVER, ODD, PLAIN, only_whole, sides_of, small_nets, some_nets
+from samples import (
+    BACK, FAR, G, GREAT, HUGE, NEVER, ODD, PLAIN, hours_about, only_whole, sides_of, small_nets, some_nets,
+)
 
 MANY = 10 ** 18
 
@@ -236,7 +238,7 @@ class Gains(unittest.TestCase):
         for last, gain in ((0, 0), (1, 0), (2, 0), (3, 4), (4, 4), (6, 4), (7, 7), (8, 7), (FAR, 7)):
             self.check(PLAIN, last, gain)
         for last, gain in (
-            (0, 0), (2, 0), (3, 1), (4, 1), (5, G), (6, 2 * G - 1), (7, 2 * G - 1), (8, 2 * G), (9, 2 * G), (FAR, 2 * G),
+            (0, 0), (2, 0), (3, 1), (4, 1), (5, G), (6, 2 * G - 1), (7, 2 * G - 1), (8, 2 * G), (FAR, 2 * G),
         ):
             self.check(GREAT, last, gain)
 
@@ -247,11 +249,8 @@ class Gains(unittest.TestCase):
 
     def test_what_the_most_grows_by(self):
         for net in list(small_nets(150)) + list(some_nets(150)):
-            hours = {1, 2, 5, 12, 10 ** 6, FAR}
-            for length, _ in bends_of(net):
-                hours.update((length - 1, length, length + 1))
             self.check(net, 0, most_by(net, 0))
-            for last in sorted(hours - {0}):
+            for last in hours_about([length for length, loads in bends_of(net)])[1:]:
                 self.check(net, last, most_by(net, last) - most_by(net, last - 1))
 
     def test_they_only_grow_up_to_the_greatest_rate(self):
