@@ -128,6 +128,16 @@ def least_hours_of(net):
     return least
 
 
+def fits_by_words(net, last, plan):
+    """What 3.1 asks of each triple and of their order."""
+    for hour, way, loads in plan:
+        if hour < 0 or loads < 1 or way not in range(len(net[1])):
+            return False
+        if loads > net[1][way][2] or hour + net[1][way][3] > last:
+            return False
+    return plan == sorted(plan) and len({triple[:2] for triple in plan}) == len(plan)
+
+
 def stood(net, plan, place, hour):
     """What has come to a place by an hour, less what has left it."""
     come = sum(loads for at, way, loads in plan if net[1][way][1] == place and at + net[1][way][3] <= hour)
@@ -158,9 +168,9 @@ def tiny_nets(count):
         yield (many, tuple(ways))
 
 
-def most_by_trying(net, last):
-    """The most that any right plan has brought by an hour, by trying all that may go in, hour by hour."""
-    many, ways = net
+def most_tried(calendar, stores):
+    """The most of some stores that any right plan brings, by trying all that may go in, hour by hour."""
+    many, last, ways, rooms, waits = calendar
 
     @lru_cache(maxsize=None)
     def best(hour, stands, under):
@@ -169,20 +179,32 @@ def most_by_trying(net, last):
             stands[place] += loads if out == hour else 0
         if hour == last:
             return stands[-1]
-        tops = [0 if hour + long > last else min(room, stands[start]) if start else room
-                for start, to, room, long in ways]
-        found = 0
+        tops = [0 if hour + way[2] > last else min(row[hour], stands[way[0]]) for way, row in zip(ways, rooms)]
+        found = -1
         for loads in product(*(range(top + 1) for top in tops)):
             left = list(stands)
-            for (start, to, room, long), taken in zip(ways, loads):
-                left[start] -= taken if start else 0
-            if min(left) >= 0:
-                gone = [(hour + way[3], way[1], taken) for way, taken in zip(ways, loads) if taken and way[1]]
+            for way, taken in zip(ways, loads):
+                left[way[0]] -= taken
+            if all(there >= 0 and (row is None or there <= row[hour]) for there, row in zip(left, waits)):
+                gone = [(hour + way[2], way[1], taken) for way, taken in zip(ways, loads) if taken]
                 rest = [triple for triple in under if triple[0] > hour]
                 found = max(found, best(hour + 1, tuple(left), tuple(sorted(rest + gone))))
         return found
 
-    return best(0, (0,) * many, ())
+    return best(0, stores, ())
+
+
+def stores_by_trying(net, stores, last):
+    """The most of some stores that any plan right with them brings."""
+    many, ways = net
+    bare = tuple((start, to, hours) for start, to, room, hours in ways)
+    rooms = tuple((way[2],) * (last + 1) for way in ways)
+    return most_tried((many, last, bare, rooms, (None,) * many), stores)
+
+
+def most_by_trying(net, last):
+    """The most that any right plan has brought by an hour."""
+    return stores_by_trying(net, (math.inf,) + (0,) * (net[0] - 1), last)
 
 
 def most_by_hours(net, last):
@@ -223,35 +245,6 @@ def most_by_hours(net, last):
             room[(one, other)] -= loads
             room[(other, one)] += loads
         most += loads
-
-
-def some_calendars(count):
-    """Calendars whose rooms and waiting rooms are often just too small."""
-    chance = random.Random(91)
-    for number in range(count):
-        many = chance.randint(2, 5)
-        last = chance.choice((0, 1, 3, 5, 6)) if number % 4 else 6
-        ways = [(*chance.sample(range(many), 2), chance.choice((1, 1, 2, 3, 7))) for _ in range(chance.randint(0, 8))]
-        rooms = [tuple(chance.choice((0, 1, 2, 3)) for _ in range(last + 1)) for _ in ways]
-        waits = [None] * many
-        for place in range(1, many - 1):
-            if chance.random() < 0.7:
-                waits[place] = tuple(chance.choice((0, 0, 1, 2)) for _ in range(last))
-        yield (many, last, tuple(ways), tuple(rooms), tuple(waits))
-
-
-def some_cal_plan(chance, calendar):
-    """Triples, made hour by hour of what stands; more than may may be left waiting."""
-    many, last, ways, rooms, waits = calendar
-    net = (many, tuple((start, to, 0, hours) for start, to, hours in ways))
-    plan = []
-    for hour in range(last):
-        for number, (start, to, hours) in chance.sample(list(enumerate(ways)), len(ways)):
-            room = rooms[number][hour]
-            there = room if start == 0 else min(room, stood(net, plan, start, hour))
-            if there > 0 and hour + hours <= last and chance.random() < (0.4 if start == 0 else 0.9):
-                plan.append((hour, number, chance.choice((1, there, there))))
-    return sorted(plan)
 
 
 def spoilt_plan(chance, plan):

@@ -2,11 +2,12 @@ import copy
 import random
 import unittest
 
+from cal_samples import some_cal_plan, some_calendars
 from hourhaul.calendars import late_calendar, made_calendar, net_calendar, till_calendar, turned_calendar
 from hourhaul.calplans import cal_brought, cal_clean, cal_sent
 from hourhaul.errors import BadTable, HaulError
 from hourhaul.nets import turned_net
-from samples import BACK, G, GREAT, HUGE, NEVER, ODD, PLAIN, only_whole, some_cal_plan, some_calendars, some_nets
+from samples import BACK, G, GREAT, HUGE, NEVER, ODD, PLAIN, only_whole, some_nets
 
 # Place 1 has rooms to wait, place 2 lets any wait.
 MANY, LAST = 4, 3

@@ -1,10 +1,11 @@
 import random
 import unittest
 
+from cal_samples import clean_by_words, right_by_words, sent_there, some_cal_plan, some_calendars, stood_there
 from hourhaul.calendars import net_calendar
 from hourhaul.calplans import cal_brought, cal_clean, cal_right, cal_sent, cal_stands
 from hourhaul.carried import brought_by, plan_clean, plan_right, sent_from, stands_at
-from samples import HUGE, ODD, PLAIN, only_whole, some_cal_plan, some_calendars, some_nets, spoilt_plan
+from samples import HUGE, ODD, PLAIN, only_whole, some_nets, spoilt_plan
 
 # 0 -> 1 -> 3 with two to wait at 1 from hour 1 to 2, one from 2 to 3; 0 -> 2 -> 3 with any at 2;
 # way 4 leads back to the begin, way 5 away from the end.
@@ -14,44 +15,6 @@ CALENDAR = (
     (None, (0, 2, 1, 0, 0), None, None),
 )
 CLEAN = [(0, 0, 4), (1, 1, 3), (2, 1, 1)]
-
-
-def right_by_words(calendar, plan):
-    """9.2 word by word, hour by hour."""
-    many, last, ways, rooms, waits = calendar
-    for hour, way, loads in plan:
-        if hour < 0 or loads < 1 or way not in range(len(ways)):
-            return False
-        if hour + ways[way][2] > last or loads > rooms[way][hour]:
-            return False
-    if plan != sorted(plan) or len({triple[:2] for triple in plan}) != len(plan):
-        return False
-    for place in range(1, many):
-        for hour in range(last + 1):
-            there = stood_there(calendar, plan, place, hour)
-            if there < 0 or (hour < last and waits[place] is not None and there > waits[place][hour]):
-                return False
-    return True
-
-
-def clean_by_words(calendar, plan):
-    if not right_by_words(calendar, plan):
-        return False
-    ends = [calendar[2][way][:2] for hour, way, loads in plan]
-    amid = [stood_there(calendar, plan, place, calendar[1]) for place in range(1, calendar[0] - 1)]
-    return not any(amid) and all(start != calendar[0] - 1 and to != 0 for start, to in ends)
-
-
-def stood_there(calendar, plan, place, hour):
-    ways = calendar[2]
-    come = sum(loads for at, way, loads in plan if ways[way][1] == place and at + ways[way][2] <= hour)
-    return come - sum(loads for at, way, loads in plan if ways[way][0] == place and at <= hour)
-
-
-def sent_there(calendar, plan, hour):
-    ways = calendar[2]
-    left = sum(loads for at, way, loads in plan if ways[way][0] == 0 and at >= hour)
-    return left - sum(loads for at, way, loads in plan if ways[way][1] == 0 and at + ways[way][2] >= hour)
 
 
 class Right(unittest.TestCase):

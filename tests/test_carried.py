@@ -4,7 +4,7 @@ import unittest
 from hourhaul.carried import brought_by, plan_clean, plan_right, sent_from, stands_at
 from hourhaul.nets import turned_net
 from hourhaul.plans import plan_till, turned_plan
-from samples import PLAIN, only_whole, sent, some_nets, spoilt_plan, stood
+from samples import PLAIN, fits_by_words, only_whole, sent, some_nets, spoilt_plan, stood
 
 # 0 -> 1 -> 2, beside it 0 -> 2; way 3 leads back to the begin, way 4 away from the end; way 5 has no room.
 NET = (3, ((0, 1, 5, 2), (1, 2, 4, 1), (0, 2, 3, 7), (1, 0, 9, 1), (2, 1, 6, 3), (0, 1, 0, 1)))
@@ -16,12 +16,7 @@ HUGE = 10 ** 29
 
 def right_by_words(net, last, plan):
     """3.1 word by word, hour by hour."""
-    for hour, way, loads in plan:
-        if hour < 0 or loads < 1 or way not in range(len(net[1])):
-            return False
-        if loads > net[1][way][2] or hour + net[1][way][3] > last:
-            return False
-    if plan != sorted(plan) or len({triple[:2] for triple in plan}) != len(plan):
+    if not fits_by_words(net, last, plan):
         return False
     return all(stood(net, plan, place, hour) >= 0 for place in range(1, net[0]) for hour in range(last + 1))
 

@@ -1,11 +1,12 @@
 import random
 import unittest
 
+from cal_samples import are_lit_by_words, some_cal_plan, some_calendars, some_lit, spoilt_lit, sum_by_words
 from hourhaul.calendars import net_calendar
 from hourhaul.calplans import cal_brought, cal_right
 from hourhaul.closed import closed_hours, closed_sum
 from hourhaul.hournets import lit_sum
-from samples import BACK, G, HUGE, NEVER, ODD, PLAIN, only_whole, some_cal_plan, some_calendars, some_nets
+from samples import BACK, G, HUGE, NEVER, ODD, PLAIN, only_whole, some_nets
 
 # Two may wait at 1 from hour 0 to 1, five from 1 to 2; any at 2.
 CALENDAR = (
@@ -14,64 +15,6 @@ CALENDAR = (
     (None, (2, 5), None, None),
 )
 BEGIN = [(0, 0), (0, 1), (0, 2)]
-
-
-def are_lit_by_words(calendar, lit):
-    many, last, ways, rooms, waits = calendar
-    if lit != sorted(set(lit)):
-        return False
-    if any(place not in range(many - 1) or hour not in range(last + 1) for place, hour in lit):
-        return False
-    if any((0, hour) not in lit for hour in range(last + 1)):
-        return False
-    for place in range(many):
-        for hour in range(last):
-            if waits[place] is None and (place, hour) in lit and (place, hour + 1) not in lit:
-                return False
-    return True
-
-
-def sum_by_words(calendar, lit):
-    """10.1, added one by one."""
-    many, last, ways, rooms, waits = calendar
-    total = 0
-    for number, (start, to, hours) in enumerate(ways):
-        for hour in range(last + 1):
-            if hour + hours <= last and (start, hour) in lit and (to, hour + hours) not in lit:
-                total += rooms[number][hour]
-    for place in range(many):
-        for hour in range(last):
-            if waits[place] is not None and (place, hour) in lit and (place, hour + 1) not in lit:
-                total += waits[place][hour]
-    return total
-
-
-def some_lit(chance, calendar):
-    """Pairs that are often lit ones."""
-    many, last, ways, rooms, waits = calendar
-    lit = [(0, hour) for hour in range(last + 1)]
-    for place in range(1, many - 1):
-        if waits[place] is None and chance.random() < 0.9:
-            lit += [(place, hour) for hour in range(chance.randint(0, last + 1), last + 1)]
-        else:
-            lit += [(place, hour) for hour in range(last + 1) if chance.random() < 0.5]
-    return lit
-
-
-def spoilt(chance, calendar, lit):
-    number = chance.randrange(len(lit))
-    place, hour = lit[number]
-    one_other = list(lit)
-    one_other[number] = chance.choice((
-        (place, hour + 1), (place, hour - 1), (place + 1, hour), (place - 1, hour), (place, HUGE), (-HUGE, hour),
-        (calendar[0] - 1, hour), (calendar[0], hour), (place, calendar[1] + 1), (place, -1), (-1, hour),
-    ))
-    exchanged = list(lit)
-    exchanged[number], exchanged[0] = exchanged[0], exchanged[number]
-    return chance.choice((
-        lit[:number] + lit[number + 1:], sorted(lit + [lit[number]]), lit + [lit[number]], one_other, sorted(one_other),
-        exchanged, lit[::-1], sorted(lit + [(calendar[0] - 1, calendar[1])]),
-    ))
 
 
 class LitSum(unittest.TestCase):
@@ -158,7 +101,7 @@ class LitSum(unittest.TestCase):
         for calendar in some_calendars(300):
             for _ in range(3):
                 lit = some_lit(chance, calendar)
-                for tried in (lit, spoilt(chance, calendar, lit), spoilt(chance, calendar, lit)):
+                for tried in (lit, spoilt_lit(chance, calendar, lit), spoilt_lit(chance, calendar, lit)):
                     right = are_lit_by_words(calendar, tried)
                     self.check(sum_by_words(calendar, tried) if right else None, tried, calendar)
                     seen[right] += 1
