@@ -247,6 +247,17 @@ def most_by_hours(net, last):
         most += loads
 
 
+def some_plan(chance, net, last):
+    """A right plan, made hour by hour of what stands."""
+    plan = []
+    for hour in range(last):
+        for number, (start, to, room, hours) in enumerate(net[1]):
+            there = room if start == 0 else min(room, stood(net, plan, start, hour))
+            if there > 0 and hour + hours <= last and chance.random() < 0.6:
+                plan.append((hour, number, chance.choice((1, there, there))))
+    return plan
+
+
 def spoilt_plan(chance, plan):
     """A list of triples with one thing otherwise than in a plan."""
     number = chance.randrange(len(plan))

@@ -4,7 +4,7 @@ import unittest
 from hourhaul.carried import brought_by, plan_clean, plan_right, sent_from, stands_at
 from hourhaul.nets import turned_net
 from hourhaul.plans import plan_till, turned_plan
-from samples import PLAIN, fits_by_words, only_whole, sent, some_nets, spoilt_plan, stood
+from samples import PLAIN, fits_by_words, only_whole, sent, some_nets, some_plan, spoilt_plan, stood
 
 # 0 -> 1 -> 2, beside it 0 -> 2; way 3 leads back to the begin, way 4 away from the end; way 5 has no room.
 NET = (3, ((0, 1, 5, 2), (1, 2, 4, 1), (0, 2, 3, 7), (1, 0, 9, 1), (2, 1, 6, 3), (0, 1, 0, 1)))
@@ -28,17 +28,6 @@ def clean_by_words(net, last, plan):
         and all(stood(net, plan, place, last) == 0 for place in range(1, net[0] - 1))
         and all(start != net[0] - 1 and to != 0 for start, to in ends)
     )
-
-
-def some_plan(chance, net, last):
-    """A right plan, made hour by hour of what stands."""
-    plan = []
-    for hour in range(last):
-        for number, (start, to, room, hours) in enumerate(net[1]):
-            there = room if start == 0 else min(room, stood(net, plan, start, hour))
-            if there > 0 and hour + hours <= last and chance.random() < 0.6:
-                plan.append((hour, number, chance.choice((1, there, there))))
-    return plan
 
 
 class Right(unittest.TestCase):

@@ -77,7 +77,7 @@ class Language(unittest.TestCase):
     def test_there_are_files(self):
         names = {path.stem for path in FILES}
         asked = "__init__ errors nets walks plans carried streams fullest bends light closed hauls soonest chains"
-        asked += " always sums calendars calplans hournets lit alwayscal starts"
+        asked += " always sums calendars calplans hournets lit alwayscal starts shares lanes worths texts desk"
         self.assertLessEqual(set(asked.split()), names)
 
     def test_signs_sizes_and_words(self):
